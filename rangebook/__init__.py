@@ -1,0 +1,1 @@
+"""Rangebook: sums and least ones over any stretch of a row."""
