@@ -45,6 +45,41 @@ def tree_of(numbers):
     return joined(tree_of(numbers[:half]), tree_of(numbers[half:]), 0)
 
 
+def raised(tree, by):
+    """A new tree of the row, with by added at each place."""
+    if tree.left is None:
+        return even_tree(tree.many, tree.least + by)
+    return joined(tree.left, tree.right, tree.more + by)
+
+
+def halves(tree):
+    """The two parts of a tree of more than one place."""
+    if tree.left is not None:
+        return tree.left, tree.right
+    # Halves, not a cut where the stretch ends: however many deeds there are, the tree stays as low.
+    half = tree.many // 2
+    return even_tree(half, tree.least), even_tree(tree.many - half, tree.least)
+
+
+def added_in(tree, low, high, by):
+    """A new tree of the row, with by added at each place of a stretch that lies in it."""
+    return changed(tree, low, high, lambda part, above: raised(part, by))
+
+
+def filled_in(tree, low, high, number):
+    """A new tree of the row, with the number at each place of a stretch that lies in it."""
+    # What the levels above add comes on top of the number that a part keeps.
+    return changed(tree, low, high, lambda part, above: even_tree(part.many, number - above))
+
+
+def changed(tree, low, high, change):
+    """A new tree of the row, with each part that the stretch covers changed."""
+    # A deed gives another book, also where it changes nothing.
+    if low == high:
+        return raised(tree, 0)
+    return changed_in(tree, low, high, 0, change)
+
+
 # In the functions below, low and high may lie outside of the row: what is asked of a tree
 # is handed to both of its parts, and each part answers for the places that it has.
 
@@ -93,15 +128,33 @@ def first_in(tree, low, bound):
     return None if at is None else half + at
 
 
-def numbers_in(tree, low, high):
-    """A new list of the numbers from low on, ahead of high."""
+def numbers_in(tree, low, high, above=0):
+    """A new list of the numbers from low on, ahead of high, each with above added."""
     low = max(low, 0)
     high = min(high, tree.many)
     if low >= high:
         return []
     if tree.left is None:
-        return [tree.least] * (high - low)
+        return [tree.least + above] * (high - low)
     half = tree.left.many
-    ahead = numbers_in(tree.left, low, high)
-    behind = numbers_in(tree.right, low - half, high - half)
-    return [number + tree.more for number in ahead + behind]
+    ahead = numbers_in(tree.left, low, high, above + tree.more)
+    behind = numbers_in(tree.right, low - half, high - half, above + tree.more)
+    return ahead + behind
+
+
+def changed_in(tree, low, high, above, change):
+    """The tree with change(part, above) for each part that lies from low on, ahead of high.
+
+    There `above` is what the levels above the part add to it.
+    """
+    low = max(low, 0)
+    high = min(high, tree.many)
+    if low >= high:
+        return tree
+    if high - low == tree.many:
+        return change(tree, above)
+    left, right = halves(tree)
+    half = left.many
+    ahead = changed_in(left, low, high, above + tree.more, change)
+    behind = changed_in(right, low - half, high - half, above + tree.more, change)
+    return joined(ahead, behind, tree.more)

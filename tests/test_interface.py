@@ -5,7 +5,7 @@ import inspect
 import os
 import unittest
 
-from rangebook import asking, errors, rows
+from rangebook import asking, course, deeds, errors, notes, rows
 
 KINDS = ["NoRow", "OutOfRow", "Nothing", "TooMany", "NoDeed"]
 
@@ -58,6 +58,17 @@ class Functions(unittest.TestCase):
         self.check(asking, "least", ["book", "low", "high"])
         self.check(asking, "place", ["book", "low", "high"])
         self.check(asking, "first", ["book", "low", "bound"])
+
+    def test_deeds(self):
+        self.check(deeds, "added", ["book", "low", "high", "by"])
+        self.check(deeds, "filled", ["book", "low", "high", "number"])
+
+    def test_notes(self):
+        self.check(notes, "shown", ["deed"])
+        self.check(notes, "read", ["line"])
+
+    def test_course(self):
+        self.check(course, "answers", ["book", "deeds"])
 
 
 class Package(unittest.TestCase):
